@@ -1,0 +1,1 @@
+"""Lorestead: rules of ties found in small worlds, walked or broken, kept by fewest."""

@@ -1,0 +1,1 @@
+"""Terms, fields and renamings: what rules are made of."""

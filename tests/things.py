@@ -1,0 +1,71 @@
+"""Fields that many tests ask about, and things of any kind."""
+
+import copy
+
+NOTIONS = (("likes", 2), ("kind", 1))
+CHAIN = ("chain", "likes", "likes")
+FIELD = (NOTIONS, (CHAIN, "kind"), 2)
+# Nine shown atoms, and three unknowns.
+WIDE = ((("likes", 2),), ("likes",), 3)
+# Three unknowns that only terms of one place speak of.
+FLAT = ((("wise", 1), ("kind", 1)), ("wise", "kind", ("not", "kind")), 3)
+# One unknown.
+LONE = (NOTIONS, (("not", "likes"), "kind"), 1)
+FIELDS = (FIELD, WIDE, FLAT, LONE)
+
+BIG = 10 ** 40 - 1
+PLAIN = (0, 1, 2, 3, -1, BIG, -BIG, True, False, None, "", "a", "likes", "not", "both", "Kind", "likes likes", "~ {}")
+
+
+def nested(kind, core):
+    """The core within twelve of a kind."""
+    for _ in range(12):
+        if kind == "list":
+            core = [core]
+        elif kind == "dict":
+            core = {"not": core}
+        elif kind == "pair":
+            core = ("both", core, core)
+        else:
+            core = ("not", core)
+    return core
+
+
+def any_things():
+    """Things of every kind that may be handed in, made anew at each call."""
+    things = list(PLAIN)
+    things += [(), [], {}, (0,), [0], {0: 0}, (True,), (None,), ("likes",), ["likes"], {"likes": 2}]
+    things += [("not", "likes"), ["not", "likes"], ("not",), ("not", []), ([], "likes"), ({}, {}), ("both", {}, [])]
+    things += [("likes", (0, 1)), ("likes", [0, 1]), ["likes", (0, 1)], ("likes", (True, False)), ("kind", (True,))]
+    things += [(("likes", (0, 1)),), [("likes", (0, 1))], (("kind", (0,)), ("kind", (1,))), ((), ()), ([], {}, 2)]
+    things += [(0, 1), (1, 0), (0, 1, 2), [0, 1], (False, True), (0, BIG), (0, -1), (0, None), ((0,), (1,)), ({}, [])]
+    things += [NOTIONS, list(NOTIONS), FIELD, list(FIELD), dict(NOTIONS), {(1, "a"): [None, (True, {})], None: ()}]
+    for kind in ("list", "dict", "pair", "tuple"):
+        things += [nested(kind, core) for core in (BIG, True, "likes", None)]
+    return things
+
+
+def spoilt(thing, spoilers):
+    """The thing with each part in it, itself too, exchanged for each spoiler, and with parts left out and doubled."""
+    for spoiler in spoilers:
+        yield copy.deepcopy(spoiler)
+    if not isinstance(thing, tuple):
+        return
+    yield list(thing)
+    for at, part in enumerate(thing):
+        yield thing[:at] + thing[at + 1:]
+        yield thing[:at] + (part, part) + thing[at + 1:]
+        for other in spoilt(part, spoilers):
+            yield thing[:at] + (other,) + thing[at + 1:]
+
+
+def told_of(call, *parts, **more):
+    """What the call tells, or the class of what it raises, after a look that nothing handed in was changed."""
+    before = copy.deepcopy((parts, more))
+    try:
+        told = call(*parts, **more)
+    except Exception as refusal:
+        told = refusal.__class__
+    if repr((parts, more)) != repr(before):
+        raise AssertionError("what was handed in was changed")
+    return told
