@@ -18,6 +18,23 @@ LISTED = {
         "renamings": "(many)", "renamed_atom": "(field, atom, renaming)", "renamed_row": "(field, row, renaming)",
         "least_row": "(field, row)", "kinds_of": "(field, row)", "are_alike": "(field, row, thing)",
     },
+    "lorestead.worlds.worlds": {
+        "is_world": "(field, thing)", "holds_of": "(field, world, term, things)", "least_world": "(field, world)",
+        "are_like": "(field, world, thing)",
+    },
+    "lorestead.worlds.ways": {
+        "is_way": "(field, world, thing)", "ways_of": "(field, world)",
+        "atoms_by": "(field, world, way, *, shown=True)", "situations_of": "(field, world)",
+    },
+    "lorestead.rules.rules": {
+        "is_rule": "(field, thing, *, shown=False)", "renamed_rule": "(field, rule, renaming)",
+        "least_rule": "(field, rule)", "is_rule_ahead": "(field, rule, thing)", "holds_in": "(field, world, rule)",
+        "break_of": "(field, world, rule)", "covers": "(field, one, other)",
+    },
+    "lorestead.worlds.small": {
+        "small_worlds": "(field, things, *, rules=())", "many_small": "(field, things, *, rules=())",
+        "breaker_of": "(field, rule, *, rules=(), most=3)",
+    },
 }
 
 

@@ -148,8 +148,89 @@ class TestLanguage(unittest.TestCase):
             self.fail(place)
         for place, node in self.nodes(ast.Compare):
             for sign, other in zip(node.ops, node.comparators):
-                if isinstance(sign, (ast.Is, ast.IsNot)):
+                if isinstance(sign, (ast.Is, ast.IsNot)) and not self.is_asked_type(node.left):
                     self.assertIsInstance(other, ast.Constant, place)
+
+    def is_asked_type(self, node):
+        return isinstance(node, ast.Call) and isinstance(node.func, ast.Name) and node.func.id == "type"
+
+    def test_type_is_only_compared(self):
+        compared = [id(node.left) for _, node in self.nodes(ast.Compare)]
+        for place, node in self.nodes(ast.Call):
+            if self.is_asked_type(node):
+                self.assertIn(id(node), compared, place)
+                self.assertEqual(len(node.args), 1, place)
+
+    def test_products_are_iterated_at_once(self):
+        free = set()
+        for _, node in self.nodes(ast.Call):
+            if isinstance(node.func, ast.Name) and node.func.id in ("list", "tuple", "sorted", "sum", "any", "all"):
+                free.update(id(part) for part in node.args)
+        for _, node in self.nodes(ast.For, ast.comprehension):
+            free.add(id(node.iter))
+        for place, node in self.nodes(ast.Call):
+            if isinstance(node.func, ast.Name) and node.func.id in ("product", "combinations", "permutations"):
+                self.assertIn(id(node), free, place)
+            elif isinstance(node.func, ast.Name) and node.func.id in ("range", "zip", "enumerate", "reversed"):
+                self.assertIn(id(node), free | self.outer(), place)
+
+    def outer(self):
+        """Calls that stand right in a zip, an enumerate or a min, or behind an `in`."""
+        parts = [part for _, node in self.nodes(ast.Compare) for part in node.comparators]
+        for _, node in self.nodes(ast.Call):
+            if isinstance(node.func, ast.Name):
+                parts += node.args
+        return {id(part) for part in parts}
+
+    def test_locals_are_not_called_as_imports_and_classes(self):
+        for name, tree in self.trees.items():
+            taken = [node.name for node in tree.body if isinstance(node, ast.ClassDef)]
+            taken += [part.name for node in tree.body if isinstance(node, ast.ImportFrom) for part in node.names]
+            for node in ast.walk(tree):
+                if isinstance(node, ast.arg):
+                    self.assertNotIn(node.arg, taken, f"{name}:{node.lineno}")
+                if isinstance(node, ast.Name) and isinstance(node.ctx, ast.Store):
+                    self.assertNotIn(node.id, taken, f"{name}:{node.lineno}")
+
+    def test_attributes_and_methods_have_names_of_their_own(self):
+        attributes = {node.attr for _, node in self.nodes(ast.Attribute) if isinstance(node.ctx, ast.Store)}
+        methods = {node.name for _, tree in self.nodes(ast.ClassDef) for node in tree.body
+                   if isinstance(node, ast.FunctionDef)}
+        self.assertEqual(attributes & methods, set())
+        for name in attributes | {method for method in methods if not method.startswith("__")}:
+            self.assertFalse(any(hasattr(kind, name) for kind in (str, int, list, dict, set, bytes, tuple)), name)
+
+    def test_no_sort_in_place(self):
+        for place, node in self.nodes(ast.Attribute):
+            self.assertNotEqual(node.attr, "sort", place)
+
+    def test_what_a_loop_goes_over_is_not_changed_in_it(self):
+        changing = ("append", "extend", "pop", "remove", "insert", "clear", "update", "setdefault", "reverse")
+        for place, node in self.nodes(ast.For):
+            over = {part.id for part in ast.walk(node.iter) if isinstance(part, ast.Name)}
+            for part in ast.walk(ast.Module(body=node.body, type_ignores=[])):
+                if isinstance(part, ast.Call) and isinstance(part.func, ast.Attribute):
+                    if part.func.attr in changing and isinstance(part.func.value, ast.Name):
+                        self.assertNotIn(part.func.value.id, over, place)
+                if isinstance(part, ast.Subscript) and isinstance(part.ctx, ast.Store):
+                    if isinstance(part.value, ast.Name):
+                        self.assertNotIn(part.value.id, over, place)
+                if isinstance(part, ast.AugAssign) and isinstance(part.target, ast.Name):
+                    self.assertNotIn(part.target.id, over - self.numbers_in(node.iter), place)
+
+    def numbers_in(self, node):
+        """Names that stand within a range or a slice alone, which are read before the loop begins."""
+        inner = [part for part in ast.walk(node) if isinstance(part, ast.Call)
+                 and isinstance(part.func, ast.Name) and part.func.id == "range"]
+        return {part.id for call in inner for part in ast.walk(call) if isinstance(part, ast.Name)}
+
+    def test_each_import_is_used(self):
+        for name, tree in self.trees.items():
+            used = {node.id for node in ast.walk(tree) if isinstance(node, ast.Name)}
+            for node in tree.body:
+                if isinstance(node, ast.ImportFrom):
+                    for part in node.names:
+                        self.assertIn(part.name, used, name)
 
     def test_sets_are_only_measured_sorted_or_searched(self):
         free = set()

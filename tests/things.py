@@ -13,6 +13,17 @@ FLAT = ((("wise", 1), ("kind", 1)), ("wise", "kind", ("not", "kind")), 3)
 LONE = (NOTIONS, (("not", "likes"), "kind"), 1)
 FIELDS = (FIELD, WIDE, FLAT, LONE)
 
+# Three unknowns and terms within terms: 36 atoms.
+DEEP = (NOTIONS, (("some", ("chain", "likes", ("not", "likes"))), "kind", ("not", "kind")), 3)
+# Each word, two unknowns.
+WORDY = (
+    (("wise", 1), ("near", 2)),
+    (("either", "wise", ("some", "near")), ("both", "wise", ("not", "wise")), ("turned", ("not", "near"))), 2,
+)
+# Two notions of two places: of three things more than twelve ties could be.
+BROAD = ((("near", 2), ("likes", 2), ("kind", 1)), ("kind", ("chain", "near", ("turned", "likes"))), 2)
+MORE_FIELDS = FIELDS + (DEEP, WORDY, BROAD)
+
 BIG = 10 ** 40 - 1
 PLAIN = (0, 1, 2, 3, -1, BIG, -BIG, True, False, None, "", "a", "likes", "not", "both", "Kind", "likes likes", "~ {}")
 
@@ -69,3 +80,33 @@ def told_of(call, *parts, **more):
     if repr((parts, more)) != repr(before):
         raise AssertionError("what was handed in was changed")
     return told
+
+
+def check_refusals(test, call, parts, names=()):
+    """Look that each part that isn't right is refused by its own error, and that the first such goes first.
+
+    Parts are (right, error, accepts); those of the names, the last ones, are handed in by name.
+    """
+    split = len(parts) - len(names)
+
+    def asked(given):
+        return told_of(call, *given[:split], **dict(zip(names, given[split:])))
+
+    rights = [right for right, _, _ in parts]
+    first = asked(rights)
+    test.assertFalse(isinstance(first, type) and issubclass(first, Exception), first)
+    test.assertEqual(asked(rights), first)
+    for at, (_, error, accepts) in enumerate(parts):
+        if error is None:
+            continue
+        wrongs = [thing for thing in any_things() if not accepts(thing)]
+        test.assertGreater(len(wrongs), 40)
+        for wrong in wrongs:
+            test.assertIs(asked(rights[:at] + [wrong] + rights[at + 1:]), error, wrong)
+            test.assertIs(asked(rights[:at] + [wrong] * (len(parts) - at)), error, wrong)
+
+
+def check_anything(test, call, *parts, **more):
+    """Look that the call tells True or False of whatever it is asked of last, and no error."""
+    for thing in any_things():
+        test.assertIn(repr(told_of(call, *parts, thing, **more)), ("True", "False"), thing)

@@ -1,12 +1,52 @@
 """Fields: notions, shown terms and unknowns, and the atoms that they make."""
 
 from lorestead.errors import NoAtom, NoField
-from lorestead.fields.terms import is_notions, is_number_in, parts_by_text, term_places, text_of
+from lorestead.fields.listing import Atoms
+from lorestead.fields.terms import enter_term, is_notions, is_number_in, parts_by_text, term_places, text_of
 
 MOST_SHOWN = 10
 MOST_ATOMS = 40
 MOST_SHOWN_TERMS = 4
 MOST_UNKNOWNS = 3
+
+
+def found_terms(thing):
+    """The terms of a field with their places, by their texts, parts ahead of wholes; {} of what is no field."""
+    if type(thing) is not tuple or len(thing) != 3:
+        return {}
+    notions, shown, many = thing
+    if not is_notions(notions) or type(shown) is not tuple or not 1 <= len(shown) <= MOST_SHOWN_TERMS:
+        return {}
+    if not is_number_in(many, 1, MOST_UNKNOWNS):
+        return {}
+    names = {name: places for name, places in notions}
+    found = {name: (name, names[name]) for name in names}
+    texts = [enter_term(names, found, term) for term in shown]
+    if "" in texts or len(set(texts)) < len(texts):
+        return {}
+    sizes = (0, many, many * many)
+    if sum([sizes[found[text][1]] for text in texts]) > MOST_SHOWN:
+        return {}
+    if sum([sizes[places] for _, places in found.values()]) > MOST_ATOMS:
+        return {}
+    return found
+
+
+def _listing(field, shown):
+    found = found_terms(field)
+    if not found:
+        raise NoField("a field (notions, shown, many) of at most ten shown atoms, forty in all, is due")
+    return Atoms(field, found, shown)
+
+
+def all_atoms(field):
+    """All atoms of the field with their numbers; NoField of what is none."""
+    return _listing(field, False)
+
+
+def shown_atoms(field):
+    """The shown atoms of the field with their numbers among these; NoField of what is none."""
+    return _listing(field, True)
 
 
 def _are_shown(notions, thing):

@@ -4,6 +4,7 @@ from itertools import permutations
 
 from lorestead.errors import NoAtom, NoMost, NoRenaming, NoRow
 from lorestead.fields.fields import MOST_UNKNOWNS, has_atom, listed_atoms, require_atom, require_field
+from lorestead.fields.listing import images_of
 from lorestead.fields.terms import is_number_in
 
 
@@ -62,6 +63,11 @@ def renamings(many):
     if not is_number_in(many, 1, MOST_UNKNOWNS):
         raise NoMost("a whole number from 1 to 3 is due")
     return tuple(permutations(range(many)))
+
+
+def all_images(atoms):
+    """For each renaming, rising, the numbers that the atoms get by it."""
+    return [images_of(atoms, renaming) for renaming in renamings(atoms.unknowns)]
 
 
 def require_renaming(field, thing):

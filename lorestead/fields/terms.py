@@ -72,6 +72,29 @@ def _places_within(notions, thing, tuples):
     return _places_by_word(thing[0], places)
 
 
+def enter_term(names, found, thing, tuples=MOST_TUPLES):
+    """The text of a term, "" of anything else; found gets the term and its parts by their texts, with their places.
+
+    Names are told with their places; a term has at most so many tuples within one another.
+    """
+    if type(thing) is str:
+        if thing not in names:
+            return ""
+        found[thing] = (thing, names[thing])
+        return thing
+    if type(thing) is not tuple or tuples == 0 or len(thing) not in (2, 3):
+        return ""
+    texts = [enter_term(names, found, part, tuples - 1) for part in thing[1:]]
+    if "" in texts:
+        return ""
+    places = _places_by_word(thing[0], [found[text][1] for text in texts])
+    if places == 0:
+        return ""
+    text = " ".join([thing[0], *texts])
+    found[text] = (thing, places)
+    return text
+
+
 def term_places(notions, thing):
     """The places of a term of these notions, which are some, and 0 of anything else."""
     return _places_within(notions, thing, MOST_TUPLES)

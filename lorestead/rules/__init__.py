@@ -1,0 +1,1 @@
+"""Rules: ifs and thens, and where they hold."""

@@ -1,0 +1,1 @@
+"""Worlds of things in ties, the ways of a field in them, and the small worlds."""
