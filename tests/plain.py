@@ -141,3 +141,89 @@ def renamings(field):
 def rule_key(field, rule):
     """What rules stand by."""
     return (places(field, rule[0]), places(field, rule[1]))
+
+
+def told_by_terms(field, row):
+    """The set of all atoms that term rows tell by what is in the row, those that are in it, too."""
+    there = set(row)
+    atoms = atoms_of(field)
+    unknowns = range(field[2])
+    told = set()
+    for term in {atom[0] for atom in atoms if isinstance(atom[0], tuple)}:
+        word, first, second = term[0], term[1], term[-1]
+        for spot in {atom[1] for atom in atoms if atom[0] == term}:
+            whole = (term, spot)
+            if word == "not" and whole in there and (first, spot) in there:
+                told |= set(atoms)
+            if word == "both":
+                if whole in there:
+                    told |= {(first, spot), (second, spot)}
+                if (first, spot) in there and (second, spot) in there:
+                    told.add(whole)
+            if word == "either" and ((first, spot) in there or (second, spot) in there):
+                told.add(whole)
+            if word == "turned":
+                back = (first, spot[::-1])
+                told |= ({whole} if back in there else set()) | ({back} if whole in there else set())
+            if word == "chain" and any((first, (spot[0], amid)) in there and (second, (amid, spot[1])) in there
+                                       for amid in unknowns):
+                told.add(whole)
+            if word == "some" and any((first, (spot[0], other)) in there for other in unknowns):
+                told.add(whole)
+    return told
+
+
+def told_at_once(field, row, rules):
+    """The set of all atoms that come at once by the rules and by term rows of what is in the row."""
+    there = set(row)
+    told = told_by_terms(field, row)
+    for rule in rules:
+        for renaming in renamings(field):
+            if set(renamed(field, rule[0], renaming)) <= there:
+                told |= set(renamed(field, rule[1], renaming))
+    return told
+
+
+def given_of(field, row, rules):
+    """All that the rules give of the row, and after how many rounds each row stood, the last one twice."""
+    rows = [row_of(field, row)]
+    while len(rows) < 2 or rows[-1] != rows[-2]:
+        rows.append(row_of(field, set(rows[-1]) | told_at_once(field, rows[-1], rules)))
+    return rows[-1], rows
+
+
+def is_walk(field, rules, rule, thing):
+    """Whether the thing, a tuple of steps of the right forms, is a walk to the rule."""
+    there = set(rule[0])
+    for step in thing:
+        if step[0] == "rule":
+            _, number, renaming, atom = step
+            ifs, thens = [renamed(field, row, renaming) for row in rules[number]]
+            if not set(ifs) <= there or atom not in thens:
+                return False
+        elif step[1] not in told_by_terms(field, tuple(there)):
+            return False
+        there.add(step[-1])
+    return set(rule[1]) <= there
+
+
+def all_situations(field):
+    """All situations, as their lengths stand."""
+    atoms = atoms_of(field, shown=True)
+    return [row for many in range(len(atoms) + 1) for row in itertools.combinations(atoms, many)]
+
+
+def closure(field, row, rules=None, worlds=None, situations=None):
+    """The closure of the situation in a theory that is told so."""
+    shown = atoms_of(field, shown=True)
+    if rules is not None:
+        return tuple(atom for atom in given_of(field, row, rules)[0] if atom in shown)
+    if worlds is not None:
+        rows = [situation(field, world, way) for world in worlds for way in ways(field, world)]
+    else:
+        rows = [renamed(field, told, renaming) for told in situations for renaming in renamings(field)]
+    left = set(shown)
+    for told in rows:
+        if set(row) <= set(told):
+            left &= set(told)
+    return row_of(field, left)

@@ -35,6 +35,27 @@ LISTED = {
         "small_worlds": "(field, things, *, rules=())", "many_small": "(field, things, *, rules=())",
         "breaker_of": "(field, rule, *, rules=(), most=3)",
     },
+    "lorestead.theories.giving": {
+        "told_by_terms": "(field, row)", "given_of": "(field, row, *, rules=())", "is_whole": "(field, thing)",
+    },
+    "lorestead.theories.theories": {"Theory": "(field, *, rules=(), worlds=None, situations=None)"},
+    "lorestead.theories.walks": {
+        "walk_to": "(field, rules, rule)", "shows_walk": "(field, rules, rule, thing)",
+        "thinned_walk": "(field, rules, rule, walk)", "rounds_of": "(field, rules, rule)",
+    },
+    "lorestead.theories.verdicts": {
+        "verdict_on": "(field, rule, *, rules=(), most=3)",
+        "shows_verdict": "(field, rule, thing, *, rules=(), most=3)",
+    },
+}
+METHODS = {
+    "lorestead.theories.theories": {
+        "Theory": {
+            "field": "(self)", "rules": "(self)", "worlds": "(self)", "situations": "(self)",
+            "closure": "(self, situation)", "has": "(self, rule)", "is_closed": "(self, thing)",
+            "__eq__": "(self, other)", "__len__": "(self)", "__repr__": "(self)",
+        },
+    },
 }
 
 
@@ -47,6 +68,13 @@ class TestInterface(unittest.TestCase):
                 function = getattr(module, name)
                 self.assertEqual(function.__module__, file, name)
                 self.assertEqual(str(inspect.signature(function)), arguments, name)
+
+    def test_methods_stand_in_their_class_itself(self):
+        for file, classes in METHODS.items():
+            for name, methods in classes.items():
+                held = vars(getattr(import_module(file), name))
+                for method, arguments in methods.items():
+                    self.assertEqual(str(inspect.signature(held[method])), arguments, (name, method))
 
 
 if __name__ == "__main__":

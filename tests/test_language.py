@@ -158,7 +158,7 @@ class TestLanguage(unittest.TestCase):
         compared = [id(node.left) for _, node in self.nodes(ast.Compare)]
         for place, node in self.nodes(ast.Call):
             if self.is_asked_type(node):
-                self.assertIn(id(node), compared, place)
+                self.assertTrue(id(node) in compared, place)
                 self.assertEqual(len(node.args), 1, place)
 
     def test_products_are_iterated_at_once(self):
@@ -170,9 +170,9 @@ class TestLanguage(unittest.TestCase):
             free.add(id(node.iter))
         for place, node in self.nodes(ast.Call):
             if isinstance(node.func, ast.Name) and node.func.id in ("product", "combinations", "permutations"):
-                self.assertIn(id(node), free, place)
+                self.assertTrue(id(node) in free, place)
             elif isinstance(node.func, ast.Name) and node.func.id in ("range", "zip", "enumerate", "reversed"):
-                self.assertIn(id(node), free | self.outer(), place)
+                self.assertTrue(id(node) in free or id(node) in self.outer(), place)
 
     def outer(self):
         """Calls that stand right in a zip, an enumerate or a min, or behind an `in`."""
@@ -241,10 +241,10 @@ class TestLanguage(unittest.TestCase):
             parts = [node.value] if isinstance(node, ast.Assign) else node.comparators
             free.update(id(part) for part in parts)
         for place, node in self.nodes(ast.Set, ast.SetComp):
-            self.assertIn(id(node), free, place)
+            self.assertTrue(id(node) in free, place)
         for place, node in self.nodes(ast.Call):
             if isinstance(node.func, ast.Name) and node.func.id in ("set", "frozenset"):
-                self.assertIn(id(node), free, place)
+                self.assertTrue(id(node) in free, place)
 
 
 if __name__ == "__main__":

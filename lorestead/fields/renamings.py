@@ -70,13 +70,17 @@ def all_images(atoms):
     return [images_of(atoms, renaming) for renaming in renamings(atoms.unknowns)]
 
 
+def is_renaming(many, thing):
+    """Whether the thing is a tuple of so many unknowns, each once."""
+    if type(thing) is not tuple or len(thing) != many:
+        return False
+    return all([is_number_in(part, 0, many - 1) for part in thing]) and len(set(thing)) == many
+
+
 def require_renaming(field, thing):
     """Raise NoRenaming where the thing is none of what is known to be a field."""
-    most = field[2] - 1
-    if not isinstance(thing, tuple) or not all([is_number_in(part, 0, most) for part in thing]):
-        raise NoRenaming("a tuple of the field's unknowns is due")
-    if sorted(thing) != list(range(most + 1)):
-        raise NoRenaming("each unknown is due once")
+    if not is_renaming(field[2], thing):
+        raise NoRenaming("a tuple of all the field's unknowns, each once, is due")
 
 
 def _with_unknowns(atom, renaming):

@@ -1,0 +1,150 @@
+"""Theories: told by rules, by worlds or by situations; their closures, and the rules that they have."""
+
+from lorestead.errors import NoRule, NoSituation, NoTheory, NoWorld
+from lorestead.fields.fields import all_atoms, shown_atoms
+from lorestead.fields.listing import mask_of, numbers_in, numbers_of, row_at
+from lorestead.fields.renamings import all_images
+from lorestead.rules.rules import require_rule, require_rules, rule_numbers
+from lorestead.theories.closures import closed_among, closures_by_masks, closures_by_rows, grown_tables
+from lorestead.theories.giving import giving_rows, grown, shown_numbers, term_rows
+from lorestead.worlds.crowds import Crowd, all_ties, broken_in, situations_in, ways_in
+from lorestead.worlds.worlds import require_ties
+
+MOST_WORLDS = 1000
+MOST_SITUATIONS = 1100
+
+
+def _crowds(notions, thing):
+    """The worlds of a tuple of at most so many, a crowd for those of as many things; NoWorld of anything else."""
+    if type(thing) is not tuple or len(thing) > MOST_WORLDS:
+        raise NoWorld("a tuple of at most 1000 worlds is due")
+    alike = {}
+    for world in thing:
+        numbers = require_ties(notions, world)
+        alike.setdefault(world[0], []).append(numbers)
+    crowds = []
+    for things in sorted(alike):
+        cells = [0] * len(all_ties(notions, things))
+        for place, numbers in enumerate(alike[things]):
+            for number in numbers:
+                cells[number] |= 1 << place
+        crowds.append(Crowd(notions, things, (1 << len(alike[things])) - 1, cells))
+    return crowds
+
+
+def _whole_masks(shown, whole, thing):
+    """The masks of a tuple of at most so many whole situations; NoSituation of anything else.
+
+    Whole are the masks that are, a bit each.
+    """
+    if type(thing) is not tuple or len(thing) > MOST_SITUATIONS:
+        raise NoSituation("a tuple of at most 1100 situations is due")
+    masks = []
+    for situation in thing:
+        numbers = numbers_in(shown.row, situation)
+        if numbers is None or not whole >> mask_of(numbers) & 1:
+            raise NoSituation("a whole situation of the field is due")
+        masks.append(mask_of(numbers))
+    return masks
+
+
+class Theory:
+    """A theory of a field, by rules where neither worlds nor situations are told."""
+
+    def __init__(self, field, *, rules=(), worlds=None, situations=None):
+        self._atoms = all_atoms(field)
+        self._shown = shown_atoms(field)
+        self._numbers = shown_numbers(field, self._atoms)
+        known = require_rules(self._atoms, rules)
+        self._crowds = [] if worlds is None else _crowds(field[0], worlds)
+        self._masks = [] if situations is None else self._told_masks(situations)
+        if [rules != (), worlds is not None, situations is not None].count(True) > 1:
+            raise NoTheory("a theory is told by rules, by worlds or by situations alone")
+        self._field = field
+        self._rules = rules
+        self._worlds = worlds
+        self._situations = situations
+        self._rows = giving_rows(self._atoms, known) if worlds is None and situations is None else []
+        self._closures = None
+
+    def _told_masks(self, situations):
+        cells = grown_tables(len(self._atoms.row), self._numbers, term_rows(self._atoms))
+        whole = closed_among([cells[number] for number in self._numbers])
+        return _whole_masks(self._shown, whole, situations)
+
+    def _all_masks(self):
+        """The masks of the situations that closures are made of, where rules are told none."""
+        if self._worlds is not None:
+            return [mask for crowd in self._crowds for mask in situations_in(crowd, self._shown)]
+        rows = [numbers_of(mask) for mask in self._masks]
+        return [mask_of([image[at] for at in row]) for image in all_images(self._shown) for row in rows]
+
+    def closures(self):
+        """For each situation, by its mask, the mask of its closure, by the atoms' numbers among the shown ones."""
+        # They are worked out when they are first asked for, as a theory may be asked for other things alone.
+        if self._closures is None:
+            if self._worlds is None and self._situations is None:
+                self._closures = closures_by_rows(len(self._atoms.row), self._numbers, self._rows)
+            else:
+                self._closures = closures_by_masks(len(self._numbers), self._all_masks())
+        return self._closures
+
+    def closed_masks(self):
+        """The masks of the closed situations, rising."""
+        return [mask for mask, closure in enumerate(self.closures()) if mask == closure]
+
+    def field(self):
+        """The field, as handed in."""
+        return self._field
+
+    def rules(self):
+        """The rules, as handed in."""
+        return self._rules
+
+    def worlds(self):
+        """The worlds, as handed in, or None."""
+        return self._worlds
+
+    def situations(self):
+        """The situations, as handed in, or None."""
+        return self._situations
+
+    def closure(self, situation):
+        """The closure of the situation."""
+        numbers = numbers_in(self._shown.row, situation)
+        if numbers is None:
+            raise NoSituation("a rising tuple of unlike shown atoms is due")
+        return row_at(self._shown, numbers_of(self.closures()[mask_of(numbers)]))
+
+    def has(self, rule):
+        """Whether the theory has the rule."""
+        shown = rule_numbers(self._shown, rule)
+        if shown is not None:
+            ifs, thens = [mask_of(numbers) for numbers in shown]
+            return self.closures()[ifs] & thens == thens
+        ifs, thens = [mask_of(numbers) for numbers in require_rule(self._atoms, rule)]
+        if self._situations is not None:
+            raise NoRule("a shown rule is due where a theory is told by situations")
+        if self._worlds is None:
+            return grown(self._rows, ifs) & thens == thens
+        many = self._shown.unknowns
+        return not any([broken_in(crowd, rule, ways_in(crowd.things, many)) for crowd in self._crowds])
+
+    def is_closed(self, thing):
+        """Whether the thing is a situation that is its closure."""
+        numbers = numbers_in(self._shown.row, thing)
+        if numbers is None:
+            return False
+        mask = mask_of(numbers)
+        return self.closures()[mask] == mask
+
+    def __eq__(self, other):
+        if not isinstance(other, Theory):
+            return False
+        return self._field == other._field and self.closed_masks() == other.closed_masks()
+
+    def __len__(self):
+        return len(self.closed_masks())
+
+    def __repr__(self):
+        return f"Theory({len(self)} closed)"
