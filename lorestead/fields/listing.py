@@ -43,6 +43,22 @@ def numbers_in(known, thing):
     return numbers
 
 
+def number_in(atoms, thing):
+    """The number of the thing among the atoms, -1 where it is none of them."""
+    if type(thing) is not tuple or len(thing) != 2 or type(thing[1]) is not tuple:
+        return -1
+    wanted, unknowns = thing
+    place = 0
+    for one in unknowns:
+        if type(one) is not int or not 0 <= one < atoms.unknowns:
+            return -1
+        place = place * atoms.unknowns + one
+    for start, term, places in atoms.spans:
+        if term == wanted and len(unknowns) == places:
+            return start + place
+    return -1
+
+
 def mask_of(numbers):
     """A whole number that has a bit for each of the numbers."""
     mask = 0

@@ -2,60 +2,40 @@
 
 from itertools import permutations
 
-from lorestead.errors import NoAtom, NoMost, NoRenaming, NoRow
-from lorestead.fields.fields import MOST_UNKNOWNS, has_atom, listed_atoms, require_atom, require_field
-from lorestead.fields.listing import images_of
+from lorestead.errors import NoMost, NoRenaming, NoRow
+from lorestead.fields.fields import MOST_UNKNOWNS, all_atoms, atom_number, shown_atoms
+from lorestead.fields.listing import images_of, numbers_in, row_at
 from lorestead.fields.terms import is_number_in
-
-
-def places_in(atoms, row):
-    """The numbers that the row's atoms have among these atoms."""
-    return tuple([atoms.index(atom) for atom in row])
-
-
-def _rises(atoms, thing):
-    """Whether the thing is a tuple of some of the atoms in their order, none twice."""
-    if not isinstance(thing, tuple) or not all([has_atom(atoms, part) for part in thing]):
-        return False
-    places = list(places_in(atoms, thing))
-    return places == sorted(set(places))
 
 
 def is_row(field, thing, *, shown=False):
     """Whether the thing is a row of atoms, or a situation, of the field."""
-    require_field(field)
-    return _rises(listed_atoms(field, shown), thing)
+    atoms = shown_atoms(field) if shown else all_atoms(field)
+    return numbers_in(atoms.row, thing) is not None
 
 
-def require_row(field, thing):
-    """Raise NoField or NoRow where the one or the other is none."""
-    if not is_row(field, thing):
+def require_row(atoms, thing):
+    """The numbers of the row's atoms; NoRow where the thing is no row of these atoms."""
+    numbers = numbers_in(atoms.row, thing)
+    if numbers is None:
         raise NoRow("a rising tuple of unlike atoms of the field is due")
-
-
-def rising_row(atoms, some):
-    """Those of the atoms that are among some, in order, each once."""
-    return tuple([atom for atom in atoms if atom in some])
+    return numbers
 
 
 def row_of(field, atoms):
     """The row of a tuple of atoms, handed in in any order and perhaps more than once."""
-    require_field(field)
-    if not isinstance(atoms, tuple):
+    known = all_atoms(field)
+    if type(atoms) is not tuple:
         raise NoRow("a tuple of atoms is due")
-    known = listed_atoms(field, False)
-    if not all([has_atom(known, part) for part in atoms]):
-        raise NoAtom("atoms of the field are due")
-    return rising_row(known, atoms)
+    return row_at(known, sorted(set([atom_number(known, atom) for atom in atoms])))
 
 
 def is_ahead(field, row, thing):
     """Whether the row stands ahead of the thing, a row."""
-    require_row(field, row)
-    if not is_row(field, thing):
-        return False
-    known = listed_atoms(field, False)
-    return places_in(known, row) < places_in(known, thing)
+    atoms = all_atoms(field)
+    numbers = require_row(atoms, row)
+    others = numbers_in(atoms.row, thing)
+    return others is not None and numbers < others
 
 
 def renamings(many):
@@ -83,46 +63,46 @@ def require_renaming(field, thing):
         raise NoRenaming("a tuple of all the field's unknowns, each once, is due")
 
 
-def _with_unknowns(atom, renaming):
-    term, unknowns = atom
-    return (term, tuple([renaming[unknown] for unknown in unknowns]))
-
-
-def _with_row(atoms, row, renaming):
-    return rising_row(atoms, [_with_unknowns(atom, renaming) for atom in row])
-
-
 def renamed_atom(field, atom, renaming):
     """What the atom becomes by the renaming."""
-    require_atom(field, atom)
+    atoms = all_atoms(field)
+    number = atom_number(atoms, atom)
     require_renaming(field, renaming)
-    return _with_unknowns(atom, renaming)
+    return atoms.row[images_of(atoms, renaming)[number]]
 
 
 def renamed_row(field, row, renaming):
     """What the row becomes by the renaming, rising again."""
-    require_row(field, row)
+    atoms = all_atoms(field)
+    numbers = require_row(atoms, row)
     require_renaming(field, renaming)
-    return _with_row(listed_atoms(field, False), row, renaming)
+    images = images_of(atoms, renaming)
+    return row_at(atoms, sorted([images[number] for number in numbers]))
+
+
+def _kinds(atoms, numbers):
+    """The numbers of all unlike rows that a row becomes by renamings, as rows stand."""
+    found = {tuple(sorted([images[number] for number in numbers])): True for images in all_images(atoms)}
+    return sorted(found)
 
 
 def kinds_of(field, row):
     """All unlike rows that the row becomes by renamings, as rows stand."""
-    require_row(field, row)
-    known = listed_atoms(field, False)
-    found = {}
-    for renaming in renamings(field[2]):
-        renamed = _with_row(known, row, renaming)
-        found[places_in(known, renamed)] = renamed
-    return tuple([found[places] for places in sorted(found)])
+    atoms = all_atoms(field)
+    return tuple([row_at(atoms, numbers) for numbers in _kinds(atoms, require_row(atoms, row))])
 
 
 def least_row(field, row):
     """The first of all rows that the row becomes by renamings."""
-    return kinds_of(field, row)[0]
+    atoms = all_atoms(field)
+    return row_at(atoms, _kinds(atoms, require_row(atoms, row))[0])
 
 
 def are_alike(field, row, thing):
     """Whether the thing is a row that the row becomes by a renaming."""
-    alike = kinds_of(field, row)
-    return is_row(field, thing) and thing in alike
+    atoms = all_atoms(field)
+    numbers = require_row(atoms, row)
+    others = numbers_in(atoms.row, thing)
+    if others is None or len(others) != len(numbers):
+        return False
+    return any([sorted([images[number] for number in numbers]) == others for images in all_images(atoms)])

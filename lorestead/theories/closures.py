@@ -1,16 +1,24 @@
-"""Closures of all situations of a field at once, each situation a mask of its atoms' numbers among the shown ones."""
+"""Closures of all situations of a field at once.
+
+A situation is told by its mask, of its atoms' numbers among the shown ones; a table has a bit for each mask.
+"""
 
 from lorestead.fields.listing import numbers_of
 
 
 def _tables(many):
-    """For each of so many atoms, which of all masks of them have it, a bit each."""
+    """For each of so many atoms, which masks of them have it."""
     tables = []
     size = 1
     for _ in range(many):
         tables = [table | table << size for table in tables] + [((1 << size) - 1) << size]
         size *= 2
     return tables
+
+
+def _all_masks(many):
+    """The table that has all masks of so many atoms."""
+    return (1 << (1 << many)) - 1
 
 
 def _let_grow(cells, full, steps):
@@ -28,47 +36,43 @@ def _let_grow(cells, full, steps):
                     grows = True
 
 
-def grown_tables(many, shown, rows):
-    """For each of so many atoms, in which masks of the shown ones it comes by the pairs of masks, a bit each.
+def tables_by_rows(many, shown, rows):
+    """For each shown atom the table of the masks to which it comes, where atoms come by pairs of masks of all.
 
-    Shown are the numbers of the shown ones among all.
+    Many are all atoms; shown are the numbers of the shown ones among them.
     """
     cells = [0] * many
     for number, table in zip(shown, _tables(len(shown))):
         cells[number] = table
     steps = [(numbers_of(needed), numbers_of(told & ~needed)) for needed, told in rows]
-    _let_grow(cells, (1 << (1 << len(shown))) - 1, steps)
-    return cells
+    _let_grow(cells, _all_masks(len(shown)), steps)
+    return [cells[number] for number in shown]
 
 
-def closures_by_rows(many, shown, rows):
-    """By its mask, the mask of the closure of each situation, where atoms come by the pairs of masks."""
-    cells = grown_tables(many, shown, rows)
-    closures = [0] * (1 << len(shown))
-    for place, number in enumerate(shown):
-        for mask in numbers_of(cells[number]):
-            closures[mask] |= 1 << place
-    return closures
-
-
-def closures_by_masks(many, masks):
-    """By its mask, what is in each of the masks that have all of it: all of so many atoms, where none has."""
-    size = 1 << many
-    closures = [size - 1] * size
+def tables_by_masks(many, masks):
+    """For each of so many atoms the table of the masks such that each of these that has all of them has it, too."""
+    told = 0
     for mask in masks:
-        closures[mask] = mask
-    # Atom by atom: whatever has all of a mask either has this atom, too, or is looked at without it.
-    for place in range(many):
-        bit = 1 << place
-        for mask in range(size):
-            if not mask & bit:
-                closures[mask] &= closures[mask | bit]
-    return closures
+        told |= 1 << mask
+    tables = _tables(many)
+    found = []
+    for table in tables:
+        # What is without the atom, and whatever is in that, atom by atom.
+        without = told & ~table
+        for place, other in enumerate(tables):
+            without |= (without & other) >> (1 << place)
+        found.append(_all_masks(many) ^ without)
+    return found
 
 
-def closed_among(cells):
-    """Which masks of atoms no other of these atoms comes to, a bit each, by what is told for each atom as above."""
-    closed = (1 << (1 << len(cells))) - 1
-    for cell, table in zip(cells, _tables(len(cells))):
-        closed ^= closed & (cell ^ table)
+def closure_in(tables, mask):
+    """The mask of the atoms in whose tables the mask is."""
+    return sum([1 << place for place, table in enumerate(tables) if table >> mask & 1])
+
+
+def closed_in(tables):
+    """The table of the masks that have all atoms in whose tables they are."""
+    closed = _all_masks(len(tables))
+    for table, own in zip(tables, _tables(len(tables))):
+        closed ^= closed & (table ^ own)
     return closed

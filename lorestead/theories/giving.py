@@ -1,9 +1,8 @@
 """Term rows, and what rules and term rows give of a row of atoms."""
 
-from lorestead.errors import NoRow
 from lorestead.fields.fields import all_atoms
 from lorestead.fields.listing import mask_of, numbers_in, numbers_of, row_at
-from lorestead.fields.renamings import all_images, renamings
+from lorestead.fields.renamings import all_images, renamings, require_row
 from lorestead.rules.rules import require_rules
 
 
@@ -99,24 +98,17 @@ def told_at_once(rows, mask):
     return found
 
 
-def _require_mask(atoms, row):
-    numbers = numbers_in(atoms.row, row)
-    if numbers is None:
-        raise NoRow("a rising tuple of unlike atoms of the field is due")
-    return mask_of(numbers)
-
-
 def told_by_terms(field, row):
     """The row of all atoms that term rows tell by this row at once and that aren't in it."""
     atoms = all_atoms(field)
-    mask = _require_mask(atoms, row)
+    mask = mask_of(require_row(atoms, row))
     return row_at(atoms, numbers_of(told_at_once(term_rows(atoms), mask) & ~mask))
 
 
 def given_of(field, row, *, rules=()):
     """The row of all that comes of this row by the rules in all renamings and by term rows, with the row."""
     atoms = all_atoms(field)
-    mask = _require_mask(atoms, row)
+    mask = mask_of(require_row(atoms, row))
     known = require_rules(atoms, rules)
     return row_at(atoms, numbers_of(grown(giving_rows(atoms, known), mask)))
 

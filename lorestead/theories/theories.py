@@ -5,7 +5,7 @@ from lorestead.fields.fields import all_atoms, shown_atoms
 from lorestead.fields.listing import mask_of, numbers_in, numbers_of, row_at
 from lorestead.fields.renamings import all_images
 from lorestead.rules.rules import require_rule, require_rules, rule_numbers
-from lorestead.theories.closures import closed_among, closures_by_masks, closures_by_rows, grown_tables
+from lorestead.theories.closures import closed_in, closure_in, tables_by_masks, tables_by_rows
 from lorestead.theories.giving import giving_rows, grown, shown_numbers, term_rows
 from lorestead.worlds.crowds import Crowd, all_ties, broken_in, situations_in, ways_in
 from lorestead.worlds.worlds import require_ties
@@ -33,10 +33,7 @@ def _crowds(notions, thing):
 
 
 def _whole_masks(shown, whole, thing):
-    """The masks of a tuple of at most so many whole situations; NoSituation of anything else.
-
-    Whole are the masks that are, a bit each.
-    """
+    """The masks of a tuple of at most so many whole situations, by the table of these; NoSituation of anything else."""
     if type(thing) is not tuple or len(thing) > MOST_SITUATIONS:
         raise NoSituation("a tuple of at most 1100 situations is due")
     masks = []
@@ -65,11 +62,10 @@ class Theory:
         self._worlds = worlds
         self._situations = situations
         self._rows = giving_rows(self._atoms, known) if worlds is None and situations is None else []
-        self._closures = None
+        self._kept = None
 
     def _told_masks(self, situations):
-        cells = grown_tables(len(self._atoms.row), self._numbers, term_rows(self._atoms))
-        whole = closed_among([cells[number] for number in self._numbers])
+        whole = closed_in(tables_by_rows(len(self._atoms.row), self._numbers, term_rows(self._atoms)))
         return _whole_masks(self._shown, whole, situations)
 
     def _all_masks(self):
@@ -79,19 +75,19 @@ class Theory:
         rows = [numbers_of(mask) for mask in self._masks]
         return [mask_of([image[at] for at in row]) for image in all_images(self._shown) for row in rows]
 
-    def closures(self):
-        """For each situation, by its mask, the mask of its closure, by the atoms' numbers among the shown ones."""
+    def tables(self):
+        """For each shown atom the table of the masks of those situations whose closures have it."""
         # They are worked out when they are first asked for, as a theory may be asked for other things alone.
-        if self._closures is None:
+        if self._kept is None:
             if self._worlds is None and self._situations is None:
-                self._closures = closures_by_rows(len(self._atoms.row), self._numbers, self._rows)
+                self._kept = tables_by_rows(len(self._atoms.row), self._numbers, self._rows)
             else:
-                self._closures = closures_by_masks(len(self._numbers), self._all_masks())
-        return self._closures
+                self._kept = tables_by_masks(len(self._numbers), self._all_masks())
+        return self._kept
 
     def closed_masks(self):
         """The masks of the closed situations, rising."""
-        return [mask for mask, closure in enumerate(self.closures()) if mask == closure]
+        return numbers_of(closed_in(self.tables()))
 
     def field(self):
         """The field, as handed in."""
@@ -114,14 +110,14 @@ class Theory:
         numbers = numbers_in(self._shown.row, situation)
         if numbers is None:
             raise NoSituation("a rising tuple of unlike shown atoms is due")
-        return row_at(self._shown, numbers_of(self.closures()[mask_of(numbers)]))
+        return row_at(self._shown, numbers_of(closure_in(self.tables(), mask_of(numbers))))
 
     def has(self, rule):
         """Whether the theory has the rule."""
         shown = rule_numbers(self._shown, rule)
         if shown is not None:
             ifs, thens = [mask_of(numbers) for numbers in shown]
-            return self.closures()[ifs] & thens == thens
+            return closure_in(self.tables(), ifs) & thens == thens
         ifs, thens = [mask_of(numbers) for numbers in require_rule(self._atoms, rule)]
         if self._situations is not None:
             raise NoRule("a shown rule is due where a theory is told by situations")
@@ -136,7 +132,7 @@ class Theory:
         if numbers is None:
             return False
         mask = mask_of(numbers)
-        return self.closures()[mask] == mask
+        return closure_in(self.tables(), mask) == mask
 
     def __eq__(self, other):
         if not isinstance(other, Theory):

@@ -2,7 +2,7 @@
 
 from lorestead.errors import NoWalk
 from lorestead.fields.fields import all_atoms
-from lorestead.fields.listing import images_of, mask_of, numbers_in, numbers_of, row_at
+from lorestead.fields.listing import images_of, mask_of, number_in, numbers_in, numbers_of, row_at
 from lorestead.fields.renamings import is_renaming
 from lorestead.rules.rules import require_rule, require_rules
 from lorestead.theories.giving import giving_rows, grown, rule_rows, term_rows, told_at_once
@@ -78,12 +78,12 @@ def _read_rule_step(atoms, known, step):
         return None
     if not is_renaming(atoms.unknowns, renaming):
         return None
-    numbers = numbers_in(atoms.row, (atom,))
     images = images_of(atoms, renaming)
     ifs, thens = known[number]
-    if numbers is None or numbers[0] not in [images[at] for at in thens]:
+    place = number_in(atoms, atom)
+    if place not in [images[at] for at in thens]:
         return None
-    return ([mask_of([images[at] for at in ifs])], mask_of(numbers))
+    return ([mask_of([images[at] for at in ifs])], 1 << place)
 
 
 def _read_step(atoms, known, by_terms, step):
@@ -94,11 +94,10 @@ def _read_step(atoms, known, by_terms, step):
         return _read_rule_step(atoms, known, step)
     if len(step) != 2 or step[0] != "term":
         return None
-    numbers = numbers_in(atoms.row, step[1:])
-    if numbers is None:
+    place = number_in(atoms, step[1])
+    if place < 0:
         return None
-    mask = mask_of(numbers)
-    return ([needed for needed, told in by_terms if told & mask], mask)
+    return ([needed for needed, told in by_terms if told >> place & 1], 1 << place)
 
 
 def _read_walk(atoms, known, thing):

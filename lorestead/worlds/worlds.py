@@ -2,10 +2,10 @@
 
 from itertools import permutations
 
-from lorestead.errors import NoField, NoTerm, NoWay, NoWorld
-from lorestead.fields.fields import is_field
+from lorestead.errors import NoTerm, NoWay, NoWorld
+from lorestead.fields.fields import require_field
 from lorestead.fields.listing import numbers_in
-from lorestead.fields.terms import is_number_in, term_places
+from lorestead.fields.terms import is_number_in, parts_within
 from lorestead.worlds.crowds import Crowd, all_ties, cells_of
 
 MOST_THINGS_IN_ALL = 5
@@ -32,14 +32,9 @@ def crowd_of(notions, world):
     return Crowd(notions, world[0], 1, cells_of(len(all_ties(notions, world[0])), numbers))
 
 
-def _require_field(field):
-    if not is_field(field):
-        raise NoField("a field is due")
-
-
 def is_world(field, thing):
     """Whether the thing is a world of the field."""
-    _require_field(field)
+    require_field(field)
     return tie_numbers(field[0], thing) is not None
 
 
@@ -56,12 +51,12 @@ def _number_of_tuple(thing, things, places):
 
 def holds_of(field, world, term, things):
     """Whether the term, any of the field's notions, holds of the tuple of things in the world."""
-    _require_field(field)
+    require_field(field)
     crowd = crowd_of(field[0], world)
-    places = term_places(field[0], term)
-    if places == 0:
+    text, found = parts_within(field[0], term)
+    if text == "":
         raise NoTerm("a term of the field's notions is due")
-    number = _number_of_tuple(things, crowd.things, places)
+    number = _number_of_tuple(things, crowd.things, found[text][1])
     if number < 0:
         raise NoWay("a tuple of things of the world, one for each of the term's places, is due")
     return crowd.where(term)[number] == 1
@@ -104,7 +99,7 @@ def _renumbered(notions, world):
 
 def least_world(field, world):
     """The first of all worlds like this one, by ties as Python sorts."""
-    _require_field(field)
+    require_field(field)
     require_ties(field[0], world)
     left, cells = _renumbered(field[0], world)
     ties = []
@@ -118,7 +113,7 @@ def least_world(field, world):
 
 def are_like(field, world, thing):
     """Whether the thing is a world that the world becomes where its things get other numbers."""
-    _require_field(field)
+    require_field(field)
     numbers = require_ties(field[0], world)
     wanted = tie_numbers(field[0], thing)
     if wanted is None or thing[0] != world[0] or len(wanted) != len(numbers):
