@@ -133,6 +133,7 @@ class TestShowsWalk(unittest.TestCase):
     def test_wrong_in_any_part(self):
         first, last = WALK
         wrong = [("rule", 1, (0, 1), OTHER), ("rule", 2, (0, 1), OTHER), ("rule", -2, (0, 1), OTHER)]
+        wrong += [("rule", -1, (0, 1), OTHER), ("term", None), ("term", list(OTHER)), ("term", ("kind", (True,)))]
         wrong += [("rule", False, (0, 1), OTHER), ("rule", None, (0, 1), OTHER), ("rule", "0", (0, 1), OTHER)]
         wrong += [("rule", BIG, (0, 1), OTHER), ("rule", 0, (1, 0), OTHER), ("rule", 0, (0, 0), OTHER)]
         wrong += [("rule", 0, (False, True), OTHER), ("rule", 0, [0, 1], OTHER), ("rule", 0, (0, 1), KIND)]
@@ -147,6 +148,26 @@ class TestShowsWalk(unittest.TestCase):
     def may(self, step):
         """Whether the step may be taken behind the walk."""
         return repr(step) in [repr(other) for other in (("rule", 1, (0, 1), BACK), ("rule", 0, (1, 0), KIND))]
+
+    def test_wrong_steps_by_terms(self):
+        rule = ((LIKES, BACK), ((CHAIN, (0, 0)),))
+        right = set()
+        spoilers = (None, True, False, 0, 1, BIG, "", "rule", (), [], {}, (0,), (True, False), ([],), OTHER, (CHAIN, (1, 1)))
+        for thing in spoilt(("walked", ROUND), spoilers):
+            told = told_of(shows_walk, FIELD, (), rule, thing)
+            self.assertIn(told, (True, False), thing)
+            if told:
+                right.add(repr(thing))
+        self.assertEqual(right, {repr(("walked", ROUND)), repr(("walked", ROUND * 2))})
+        for step in (("rule", (CHAIN, (0, 0))), ("Term", (CHAIN, (0, 0))), (None, (CHAIN, (0, 0))), ([], (CHAIN, (0, 0)))):
+            self.assertIs(shows_walk(FIELD, RULES, rule, ("walked", (step,))), False)
+
+    def test_numbers_of_rules(self):
+        # Python counts -1 from the end, and takes False and True for 0 and 1.
+        for number in (-1, -2, False, True, 2):
+            step = ("rule", number, (0, 1), BACK)
+            self.assertIs(self.shows((WALK[0], step)), False)
+            self.assertIs(self.shows((("rule", number, (0, 1), OTHER), WALK[1])), False)
 
     def test_a_step_too_early_and_one_too_few(self):
         self.assertIs(self.shows(WALK[::-1]), False)
@@ -191,6 +212,9 @@ class TestShowsWalk(unittest.TestCase):
         wrong = [[KIND, OTHER, LIKES], (OTHER, KIND, LIKES), (KIND, KIND), None, KIND, (("kind", (False,)),), (None,)]
         for row in wrong:
             self.assertIs(told_of(shows_walk, FIELD, (RULE,), ASKED, ("open", row)), False)
+        for word in ("Open", "opened", "stands", "walked", "", None, ("open",), ["open"]):
+            self.assertIs(told_of(shows_walk, FIELD, (RULE,), ASKED, (word, (KIND, OTHER, LIKES))), False)
+        self.assertIs(shows_walk(FIELD, (RULE,), ASKED, ("open", (KIND, OTHER, LIKES))), True)
 
     def test_anything(self):
         check_anything(self, shows_walk, FIELD, RULES, ASKED)
