@@ -47,6 +47,23 @@ LISTED = {
         "verdict_on": "(field, rule, *, rules=(), most=3)",
         "shows_verdict": "(field, rule, thing, *, rules=(), most=3)",
     },
+    "lorestead.theories.closed": {
+        "closed_of": "(theory)", "closed_at": "(theory, number)", "number_of": "(theory, situation)",
+        "kinds_closed": "(theory)", "above_of": "(theory, situation)", "height_of": "(theory)",
+    },
+    "lorestead.lists.fewest": {
+        "keeps": "(theory, rules, *, ground=())", "spare_of": "(theory, rules, *, ground=())",
+        "are_stakes": "(theory, thing, *, ground=())", "fewest_of": "(theory, *, ground=())",
+        "shows_fewest": "(theory, thing, *, ground=())",
+    },
+    "lorestead.lists.zoo": {
+        "zoo_of": "(theory)", "shows_zoo": "(theory, thing)", "breaks_in": "(field, situations, rule)",
+        "is_plain": "(field)", "world_of": "(field, situation)",
+    },
+    "lorestead.lists.primes": {
+        "is_prime": "(theory, thing)", "found_rules": "(theory)", "uses_of": "(field, rules, *, ground=())",
+        "book_of": "(theory, *, ground=())", "shows_book": "(theory, thing, *, ground=())",
+    },
 }
 METHODS = {
     "lorestead.theories.theories": {

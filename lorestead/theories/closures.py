@@ -6,7 +6,7 @@ A situation is told by its mask, of its atoms' numbers among the shown ones; a t
 from lorestead.fields.listing import numbers_of
 
 
-def _tables(many):
+def own_tables(many):
     """For each of so many atoms, which masks of them have it."""
     tables = []
     size = 1
@@ -16,7 +16,7 @@ def _tables(many):
     return tables
 
 
-def _all_masks(many):
+def all_masks(many):
     """The table that has all masks of so many atoms."""
     return (1 << (1 << many)) - 1
 
@@ -42,26 +42,23 @@ def tables_by_rows(many, shown, rows):
     Many are all atoms; shown are the numbers of the shown ones among them.
     """
     cells = [0] * many
-    for number, table in zip(shown, _tables(len(shown))):
+    for number, table in zip(shown, own_tables(len(shown))):
         cells[number] = table
     steps = [(numbers_of(needed), numbers_of(told & ~needed)) for needed, told in rows]
-    _let_grow(cells, _all_masks(len(shown)), steps)
+    _let_grow(cells, all_masks(len(shown)), steps)
     return [cells[number] for number in shown]
 
 
-def tables_by_masks(many, masks):
-    """For each of so many atoms the table of the masks such that each of these that has all of them has it, too."""
-    told = 0
-    for mask in masks:
-        told |= 1 << mask
-    tables = _tables(many)
+def tables_by_table(many, told):
+    """For each of so many atoms the table of the masks such that each told one that has all of them has it, too."""
+    tables = own_tables(many)
     found = []
     for table in tables:
         # What is without the atom, and whatever is in that, atom by atom.
         without = told & ~table
         for place, other in enumerate(tables):
             without |= (without & other) >> (1 << place)
-        found.append(_all_masks(many) ^ without)
+        found.append(all_masks(many) ^ without)
     return found
 
 
@@ -72,7 +69,7 @@ def closure_in(tables, mask):
 
 def closed_in(tables):
     """The table of the masks that have all atoms in whose tables they are."""
-    closed = _all_masks(len(tables))
-    for table, own in zip(tables, _tables(len(tables))):
+    closed = all_masks(len(tables))
+    for table, own in zip(tables, own_tables(len(tables))):
         closed ^= closed & (table ^ own)
     return closed

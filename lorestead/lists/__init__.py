@@ -1,0 +1,1 @@
+"""Lists of fewest rows, zoos, found rules, books."""
