@@ -64,6 +64,17 @@ LISTED = {
         "is_prime": "(theory, thing)", "found_rules": "(theory)", "uses_of": "(field, rules, *, ground=())",
         "book_of": "(theory, *, ground=())", "shows_book": "(theory, thing, *, ground=())",
     },
+    "lorestead.lists.two": {
+        "joined_of": "(one, other)", "shared_of": "(one, other)", "compared_of": "(one, other)",
+        "shows_compared": "(one, other, thing)", "news_of": "(one, other)",
+    },
+    "lorestead.house.house": {"House": "(field, *, most=3)"},
+    "lorestead.words.texts": {
+        "atom_text": "(field, atom)", "row_text": "(field, row)", "rule_text": "(field, rule)",
+        "world_text": "(field, world)", "field_text": "(field)", "read_rule": "(field, text)",
+        "read_world": "(field, text)", "read_field": "(text)",
+    },
+    "lorestead.words.desk": {"Desk": "()"},
 }
 METHODS = {
     "lorestead.theories.theories": {
@@ -71,6 +82,19 @@ METHODS = {
             "field": "(self)", "rules": "(self)", "worlds": "(self)", "situations": "(self)",
             "closure": "(self, situation)", "has": "(self, rule)", "is_closed": "(self, thing)",
             "__eq__": "(self, other)", "__len__": "(self)", "__repr__": "(self)",
+        },
+    },
+    "lorestead.house.house": {
+        "House": {
+            "assume": "(self, rule)", "show": "(self, world)", "forget": "(self, number)", "hide": "(self, number)",
+            "explore": "(self)", "back": "(self)", "all_of": "(self, deeds)", "rules": "(self)", "worlds": "(self)",
+            "guesses": "(self)", "verdict": "(self, rule)", "theory": "(self, *, seen=False)", "log": "(self)",
+            "is_busy": "(self)", "__eq__": "(self, other)", "__len__": "(self)", "__repr__": "(self)",
+        },
+    },
+    "lorestead.words.desk": {
+        "Desk": {
+            "say": "(self, row)", "many": "(self, rows)", "log": "(self)", "is_busy": "(self)", "__len__": "(self)",
         },
     },
 }

@@ -16,10 +16,8 @@ def _situation_mask(shown, thing):
     return mask_of(numbers)
 
 
-def _marked_tables(theory):
-    """For each shown atom the table of the closed situations of which it can be the mark."""
-    lattice = theory.lattice()
-    closed = theory.closed_table()
+def _marked_tables(lattice, closed):
+    """For each shown atom the table of those of the closed situations of which it can be the mark."""
     marked = []
     for own in lattice.owns:
         # A largest closed one without the atom: each closed one above it has it.
@@ -28,22 +26,26 @@ def _marked_tables(theory):
     return marked
 
 
-def _any_marked(marked):
-    """The table of the closed situations that have any mark."""
+def _any_of(tables):
     told = 0
-    for table in marked:
+    for table in tables:
         told |= table
     return told
+
+
+def marked_kinds(lattice, closed):
+    """The masks of each kind of those of the closed situations that have a mark, that of the least one first."""
+    return lattice.kinds_in(_any_of(_marked_tables(lattice, closed)))
 
 
 def zoo_of(theory):
     """(situations, marks): the least of each kind of closed situations that have a mark, and a mark of each."""
     require_theory(theory)
     lattice = theory.lattice()
-    marked = _marked_tables(theory)
+    marked = _marked_tables(lattice, theory.closed_table())
     situations = []
     marks = []
-    for kind in lattice.kinds_in(_any_marked(marked)):
+    for kind in marked_kinds(lattice, theory.closed_table()):
         situations.append(lattice.situation_at(kind[0]))
         own_marks = [number for number, table in enumerate(marked) if table >> kind[0] & 1]
         marks.append(lattice.shown.row[own_marks[0]])
@@ -59,8 +61,8 @@ def shows_zoo(theory, thing):
     if type(situations) is not tuple or type(marks) is not tuple or len(situations) != len(marks):
         return False
     lattice = theory.lattice()
-    marked = _marked_tables(theory)
-    left = _any_marked(marked)
+    marked = _marked_tables(lattice, theory.closed_table())
+    left = _any_of(marked)
     for situation, mark in zip(situations, marks):
         numbers = numbers_in(lattice.shown.row, situation)
         number = number_in(lattice.shown, mark)

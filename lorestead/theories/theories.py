@@ -8,7 +8,7 @@ from lorestead.rules.rules import require_rule, require_rules, rule_numbers
 from lorestead.theories.closures import closed_in, closure_in, tables_by_rows, tables_by_table
 from lorestead.theories.giving import giving_rows, grown, shown_numbers
 from lorestead.theories.lattices import Lattice
-from lorestead.worlds.crowds import Crowd, all_ties, broken_in, situations_in, ways_in
+from lorestead.worlds.crowds import broken_in, crowds_of, situations_in, ways_in
 from lorestead.worlds.worlds import require_ties
 
 MOST_WORLDS = 1000
@@ -19,18 +19,11 @@ def _crowds(notions, thing):
     """The worlds of a tuple of at most so many, a crowd for those of as many things; NoWorld of anything else."""
     if type(thing) is not tuple or len(thing) > MOST_WORLDS:
         raise NoWorld("a tuple of at most 1000 worlds is due")
-    alike = {}
-    for world in thing:
+    known = []
+    for place, world in enumerate(thing):
         numbers = require_ties(notions, world)
-        alike.setdefault(world[0], []).append(numbers)
-    crowds = []
-    for things in sorted(alike):
-        cells = [0] * len(all_ties(notions, things))
-        for place, numbers in enumerate(alike[things]):
-            for number in numbers:
-                cells[number] |= 1 << place
-        crowds.append(Crowd(notions, things, (1 << len(alike[things])) - 1, cells))
-    return crowds
+        known.append((place, world[0], numbers))
+    return [crowd for crowd, _ in crowds_of(notions, known)]
 
 
 def _whole_masks(shown, whole, thing):

@@ -87,6 +87,22 @@ class Crowd:
         return _chained(first, second, self.things)
 
 
+def crowds_of(notions, known):
+    """For worlds of as many things each a crowd and its worlds' places, of triples (place, things, ties' numbers)."""
+    alike = {}
+    for place, things, numbers in known:
+        alike.setdefault(things, []).append((place, numbers))
+    crowds = []
+    for things in sorted(alike):
+        cells = [0] * len(all_ties(notions, things))
+        for at, (_, numbers) in enumerate(alike[things]):
+            for number in numbers:
+                cells[number] |= 1 << at
+        crowd = Crowd(notions, things, (1 << len(alike[things])) - 1, cells)
+        crowds.append((crowd, [place for place, _ in alike[things]]))
+    return crowds
+
+
 def ways_in(things, many):
     """All tuples of so many unlike ones of the things, rising."""
     return list(permutations(range(things), many))
@@ -138,23 +154,24 @@ def broken_in(crowd, rule, ways):
     return broken
 
 
-def _parted(crowd, seen, way):
-    """The masks of which of the seen atoms hold by the way, of each world of the crowd."""
-    groups = [(crowd.full, 0)]
+def parted(crowd, worlds, seen, way):
+    """Pairs of some of these worlds of the crowd and the mask of the seen atoms that hold in them by the way."""
+    groups = [(worlds, 0)]
     for number, (cells, unknowns) in enumerate(seen):
         cell = cell_by(crowd, cells, unknowns, way)
-        parted = []
-        for worlds, mask in groups:
-            within = worlds & cell
+        found = []
+        for some, mask in groups:
+            within = some & cell
             if within:
-                parted.append((within, mask | 1 << number))
-            if within != worlds:
-                parted.append((worlds ^ within, mask))
-        groups = parted
-    return [mask for _, mask in groups]
+                found.append((within, mask | 1 << number))
+            if within != some:
+                found.append((some ^ within, mask))
+        groups = found
+    return groups
 
 
-def _rising_ways(things, many):
+def rising_ways(things, many):
+    """All ways of so many unknowns that rise themselves; two ways of the same things have situations that are alike."""
     return list(combinations(range(things), many))
 
 
@@ -162,9 +179,8 @@ def situations_in(crowd, shown):
     """The masks of the situations of all ways in all worlds of the crowd, each once."""
     seen = seen_row(crowd, shown.row)
     found = {}
-    # Two ways of the same things are renamed ones of one another, and so are their situations.
-    for way in _rising_ways(crowd.things, shown.unknowns):
-        for mask in _parted(crowd, seen, way):
+    for way in rising_ways(crowd.things, shown.unknowns):
+        for _, mask in parted(crowd, crowd.full, seen, way):
             found[mask] = True
     rows = [numbers_of(mask) for mask in found]
     renamed = [mask_of([images[number] for number in row]) for images in all_images(shown) for row in rows]

@@ -110,12 +110,8 @@ def _blocks(field, things):
     return [Block(field, things, 0, 0, 0), Block(field, things, 1, many - 1, 0), Block(field, things, 0, many - 1, 1)]
 
 
-def _small_blocks(field, things, rules):
+def small_blocks(field, things, rules):
     """The blocks of worlds of so many things with the small ones alone left in which the rules hold."""
-    atoms = all_atoms(field)
-    require_most(things)
-    require_rules(atoms, rules)
-    require_narrow(field[0], things)
     blocks = _blocks(field, things)
     for block in blocks:
         block.keep_rules(rules)
@@ -123,15 +119,24 @@ def _small_blocks(field, things, rules):
     return blocks
 
 
+def _asked_blocks(field, things, rules):
+    """What small_blocks tells, after a look at what was handed in."""
+    atoms = all_atoms(field)
+    require_most(things)
+    require_rules(atoms, rules)
+    require_narrow(field[0], things)
+    return small_blocks(field, things, rules)
+
+
 def small_worlds(field, things, *, rules=()):
     """All worlds of so many things in which the rules hold, the first of like ones alone, by ties as Python sorts."""
-    blocks = _small_blocks(field, things, rules)
+    blocks = _asked_blocks(field, things, rules)
     return tuple([block.world_at(number) for block in blocks for number in numbers_of(block.left)])
 
 
 def many_small(field, things, *, rules=()):
     """How many small worlds of so many things there are in which the rules hold."""
-    return sum([len(numbers_of(block.left)) for block in _small_blocks(field, things, rules)])
+    return sum([len(numbers_of(block.left)) for block in _asked_blocks(field, things, rules)])
 
 
 def first_breaker(field, rule, rules, most):
