@@ -11,7 +11,7 @@ from lorestead.words.desk import Desk
 from lorestead.words.texts import field_text, read_rule, read_world, rule_text, world_text
 from tests import plain
 from tests.plain_lists import PLAIN, THREE
-from tests.things import BROAD, FIELD, FLAT, LONE, WIDE, any_things, told_of
+from tests.things import BROAD, FIELD, FLAT, LONE, WIDE, Watched, any_things, told_of
 
 FIELD_ROW = "field likes 2, kind 1 ; chain likes likes, kind ; 2"
 FREE, HIDDEN, RULE = "likes 0 1 > likes 1 0", "kind 0 & likes 0 1 > kind 1", "kind 0 > kind 1"
@@ -208,6 +208,15 @@ class TestLog(unittest.TestCase):
         told_of(desk.many, ("rules", "x", "rules"))
         self.assertEqual(desk.log()[len(due):], (("in", "rules"), ("out", "rules"), ("in", "x"), ("out", "x")))
         self.assertIsInstance(desk.log(), tuple)
+
+    def test_busy_within_a_row(self):
+        desk = Desk()
+        desk._entries = Watched(desk.is_busy)
+        self.assertIs(desk.is_busy(), False)
+        for row in (FIELD_ROW, f"assume {RULE}", "x", None, "back"):
+            told_of(desk.say, row)
+            self.assertIs(desk.is_busy(), False)
+        self.assertEqual(desk._entries.told, [True] * 10)
 
     def test_beside_a_house(self):
         desk, house = desk_at(), House(FIELD)

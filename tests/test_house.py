@@ -18,7 +18,7 @@ from lorestead.worlds.worlds import is_world, least_world
 from tests import plain, plain_lists
 from tests.plain_lists import PLAIN, THREE
 from tests.things import (
-    BROAD, CHAIN, DEEP, FIELD, FLAT, LONE, NOTIONS, WIDE, any_things, check_refusals, told_of,
+    BROAD, CHAIN, DEEP, FIELD, FLAT, LONE, NOTIONS, WIDE, Watched, any_things, check_refusals, told_of,
 )
 
 KIND, OTHER, LIKES, BACK = ("kind", (0,)), ("kind", (1,)), ("likes", (0, 1)), ("likes", (1, 0))
@@ -282,6 +282,19 @@ class TestExplore(unittest.TestCase):
                                 told_of(house.show, world)
                         self.check(house, field, most)
 
+    def test_worlds_with_what_others_were_for(self):
+        # A world that is put for one situation brings others, for which no further one may be put then.
+        chained = ("chain", "likes", "likes")
+        for field, seeds in (
+            (FIELD, (16, 24, 28)), ((NOTIONS, (chained, "kind", ("turned", "likes")), 2), (0, 1, 2)),
+            ((NOTIONS, ("likes", "kind", ("some", chained)), 2), (0, 9, 10)),
+        ):
+            for seed in seeds:
+                house = House(field)
+                for rule in plain.some_rules(field, 1 + seed % 5, ifs=4, thens=1, seed=seed):
+                    house.assume(rule)
+                self.check(house, field, 3)
+
     def test_widest(self):
         for field in (WIDE, FLAT, DEEP):
             house = House(field)
@@ -479,6 +492,22 @@ class TestLog(unittest.TestCase):
         house.back()
         self.assertEqual(len(house.log()), many + 2)
         self.assertIs(house.is_busy(), False)
+
+
+class TestBusy(unittest.TestCase):
+
+    def test_within_a_deed(self):
+        house = House(FIELD)
+        house._entries = Watched(house.is_busy)
+        self.assertIs(house.is_busy(), False)
+        for call, parts in (
+            (house.assume, (HIDDEN,)), (house.show, (EMPTY,)), (house.all_of, ((("explore",), ("forget", 0)),)),
+            (house.all_of, ((("explore",), None),)), (house.show, (None,)), (house.back, ()), (house.explore, ()),
+        ):
+            told_of(call, *parts)
+            self.assertIs(house.is_busy(), False)
+        self.assertEqual(house._entries.told, [True] * len(house.log()))
+        self.assertEqual(len(house.log()), 22)
 
 
 class TestWhole(unittest.TestCase):

@@ -221,6 +221,13 @@ class TestBook(unittest.TestCase):
         self.assertIs(shows_book(theory, book[::-1]), False)
         self.assertEqual(sorted(book_of(theory), key=lambda pair: plain.rule_key(FIELD, pair[0])), list(book_of(theory)))
 
+    def test_a_use_of_one(self):
+        theory = Theory(SINGLE, worlds=())
+        self.assertEqual(book_of(theory), ((((), (KIND,)), 1),))
+        self.assertIs(shows_book(theory, ((((), (KIND,)), 1),)), True)
+        for wrong in (True, False, 0, "1", None, (1,)):
+            self.assertIs(shows_book(theory, ((((), (KIND,)), wrong),)), False)
+
     def test_by_the_words(self):
         for field in SMALL_ONES:
             for number, theory in enumerate(theories(field, seed=5)):

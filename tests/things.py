@@ -110,3 +110,16 @@ def check_anything(test, call, *parts, **more):
     """Look that the call tells True or False of whatever it is asked of last, and no error."""
     for thing in any_things():
         test.assertIn(repr(told_of(call, *parts, thing, **more)), ("True", "False"), thing)
+
+
+class Watched(list):
+    """A list that keeps, too, what is told each time that something is put to it."""
+
+    def __init__(self, tell):
+        super().__init__()
+        self.tell = tell
+        self.told = []
+
+    def append(self, thing):
+        super().append(thing)
+        self.told.append(self.tell())

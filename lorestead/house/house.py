@@ -17,7 +17,7 @@ WITH_PART = ("assume", "show", "forget", "hide")
 
 def _read_deed(deed):
     """The word and the part of a deed of a row, "none" and None of what is none."""
-    if type(deed) is tuple and len(deed) == 2 and type(deed[0]) is str and deed[0] in WITH_PART:
+    if type(deed) is tuple and len(deed) == 2 and deed[0] in WITH_PART:
         return deed
     if type(deed) is tuple and len(deed) == 1 and deed[0] == "explore":
         return ("explore", None)

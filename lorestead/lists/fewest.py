@@ -3,7 +3,7 @@
 from lorestead.errors import NoRule
 from lorestead.fields.listing import mask_of, numbers_in, numbers_of
 from lorestead.lists.breaking import alone_in, breaking_tables, left_in
-from lorestead.rules.rules import MOST_RULES, rule_numbers
+from lorestead.rules.rules import rule_numbers
 from lorestead.theories.closures import closure_in
 from lorestead.theories.theories import require_theory
 
@@ -35,7 +35,7 @@ def spare_of(theory, rules, *, ground=()):
 
 def list_keeps(theory, loose, thing):
     """Whether the thing is a tuple of shown rules that keeps the theory over the ground of the loose table."""
-    if type(thing) is not tuple or len(thing) > MOST_RULES:
+    if type(thing) is not tuple:
         return False
     known = [rule_numbers(theory.lattice().shown, rule) for rule in thing]
     return None not in known and _keeps(theory, loose, breaking_tables(theory.lattice(), known))
@@ -79,7 +79,7 @@ def fewest_masks(theory, loose):
     left = loose ^ theory.closed_table()
     pairs = []
     while left:
-        # The first mask that is left has no other stake's atoms without its closure.
+        # Stakes with some of its atoms alone have lower masks, so they are all taken, and so the lowest left is one.
         mask = (left & -left).bit_length() - 1
         closure = closure_in(theory.tables(), mask)
         pairs.append((mask, closure))
@@ -87,22 +87,13 @@ def fewest_masks(theory, loose):
     return pairs
 
 
-def fewest_list(theory, loose):
-    """A list of fewest rows over the ground of the loose table."""
-    lattice = theory.lattice()
-    return [
-        (lattice.situation_at(mask), lattice.situation_at(closure ^ mask))
-        for mask, closure in fewest_masks(theory, loose)
-    ]
-
-
 def fewest_of(theory, *, ground=()):
     """(list, stakes): a list that keeps the theory over the ground, and as many stakes."""
     require_theory(theory)
-    loose = theory.loose_table(ground)
-    lattice = theory.lattice()
-    stakes = [lattice.situation_at(mask) for mask, _ in fewest_masks(theory, loose)]
-    return (tuple(fewest_list(theory, loose)), tuple(stakes))
+    pairs = fewest_masks(theory, theory.loose_table(ground))
+    stakes = [theory.lattice().situation_at(mask) for mask, _ in pairs]
+    thens = [theory.lattice().situation_at(closure ^ mask) for mask, closure in pairs]
+    return (tuple(zip(stakes, thens)), tuple(stakes))
 
 
 def shows_fewest(theory, thing, *, ground=()):

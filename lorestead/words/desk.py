@@ -38,9 +38,9 @@ class Desk:
     def say(self, row):
         """The answer to the row."""
         text = row if type(row) is str else ""
+        self._busy = True
         self._said.append(text)
         self._entries.append(("in", text))
-        self._busy = True
         try:
             told = self._answer(row)
         finally:

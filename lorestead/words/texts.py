@@ -127,20 +127,16 @@ def read_world(field, text):
 def _begun_term(words, tuples):
     """What could be a term of at most so many tuples within one another, from the first word on, and the words behind.
 
-    None and no words where there is no such.
+    What is no term has None in it.
     """
     if not words or words[0] in WORDS and tuples == 0:
         return None, []
     if words[0] not in WORDS:
         return words[0], words[1:]
     first, left = _begun_term(words[1:], tuples - 1)
-    if first is None:
-        return None, []
     if words[0] not in OF_TWO_PARTS:
         return (words[0], first), left
     second, left = _begun_term(left, tuples - 1)
-    if second is None:
-        return None, []
     return (words[0], first, second), left
 
 
@@ -152,14 +148,10 @@ def _begun_field(parts):
         if figure not in FIGURES:
             return None
         notions.append((name, FIGURES.index(figure)))
-    shown = []
-    for part in parts[1].split(", "):
-        term, left = _begun_term(part.split(" "), MOST_TUPLES)
-        if term is None or left:
-            return None
-        shown.append(term)
     if parts[2] not in FIGURES:
         return None
+    # Words behind a term are found when the field is written again.
+    shown = [_begun_term(part.split(" "), MOST_TUPLES)[0] for part in parts[1].split(", ")]
     return (tuple(notions), tuple(shown), FIGURES.index(parts[2]))
 
 
