@@ -194,7 +194,7 @@ class TestStakes(unittest.TestCase):
             rows = plain.all_situations(field)
             seen = {True: 0, False: 0}
             for number, theory in enumerate(theories(field, seed=2)):
-                for ground in grounds(theory, number)[:3]:
+                for ground in grounds(theory, number)[:3:2]:
                     loose = Theory(field, rules=ground)
                     free = [row for row in rows if loose.closure(row) == row and theory.closure(row) != row]
                     pairs = list(itertools.product(free, rows))

@@ -566,7 +566,9 @@ class TestWhole(unittest.TestCase):
             house.show(world)
         self.assertEqual(len(house), 900)
         rules = plain.some_rules(WIDE, 400, ifs=9, thens=1, seed=9)
-        had = [rule for rule in rules if all(holds_in(WIDE, world, rule) for world in worlds)][:60]
+        told = Theory(WIDE, worlds=tuple(worlds))
+        had = [rule for rule in rules if told.has(rule)][:60]
+        self.assertEqual(len(had), 60)
         for rule in had:
             house.assume(rule)
         self.assertEqual(plain_lists.keeps(house.theory(seen=True), house.guesses(), tuple(had)), True)
